@@ -1,0 +1,1 @@
+"""Manyleast: a long row that changes, kept by halves of worth."""
