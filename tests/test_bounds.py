@@ -5,38 +5,12 @@ import itertools
 import random
 import unittest
 
+from drawn import strange
 from manyleast.bounds import is_bounds, is_way, span_of, top_of, way_of, where
 from manyleast.errors import Beyond, LeastError
 
 FORTY = 10 ** 40 - 1
 LOWS = (0, 1, -1, 9, -9, 12345, -12345, 10 ** 39, -(10 ** 39), FORTY, -FORTY)
-
-
-class Sour:
-    """Refuses to be compared, counted, walked or taken for a truth."""
-
-    def sour(self, *others):
-        raise RuntimeError("asked")
-
-    __eq__ = __ne__ = __lt__ = __le__ = __gt__ = __ge__ = sour
-    __len__ = __bool__ = __iter__ = __getitem__ = __hash__ = sour
-    __int__ = __index__ = __contains__ = sour
-
-
-def nested(depth, leaf):
-    thing = leaf
-    for level in range(depth):
-        thing = (thing,) if level % 2 else [thing]
-    return thing
-
-
-def strange():
-    """Things that are no tuples of numbers, and no whole numbers either."""
-    return [
-        True, False, None, "", "0", "01", b"01", 0.0, 1.0, 3.5, float("nan"), float("inf"), 1j,
-        [], [0, 3], {}, {0: 3}, set(), {0, 1}, frozenset([0, 3]), range(2), object(), Sour(), int, len,
-        nested(100, 0), [0] * 20000, (0,) * 20000, {k: k for k in range(10000)}, Ellipsis, NotImplemented,
-    ]
 
 
 class IsBounds(unittest.TestCase):

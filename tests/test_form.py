@@ -47,6 +47,12 @@ def walks():
             yield f"{path.name}:{getattr(node, 'lineno', 0)}", node
 
 
+def drawn_from(path):
+    """The files from which this one draws."""
+    parts = ast.walk(ast.parse(path.read_text(encoding="ascii")))
+    return [part.module.split(".")[1] for part in parts if isinstance(part, ast.ImportFrom)]
+
+
 def bound_names(node):
     if isinstance(node, (ast.FunctionDef, ast.ClassDef)):
         return [node.name]
@@ -125,6 +131,31 @@ class Code(unittest.TestCase):
                 self.assertRegex(node.module, r"^manyleast\.[a-z0-9_]+$", spot)
                 self.assertTrue((PACKAGE / f"{node.module.split('.')[1]}.py").is_file(), spot)
                 self.assertNotIn("*", [alias.name for alias in node.names], spot)
+
+    def test_imports_are_of_what_the_file_itself_defines(self):
+        for spot, node in walks():
+            if isinstance(node, ast.ImportFrom):
+                code = ast.parse((PACKAGE / f"{node.module.split('.')[1]}.py").read_text(encoding="ascii"))
+                defined = [part.name for part in code.body if isinstance(part, (ast.FunctionDef, ast.ClassDef))]
+                for alias in node.names:
+                    self.assertIn(alias.name, defined, spot)
+                    self.assertIsNone(alias.asname, spot)
+
+    def test_no_two_files_draw_from_one_another(self):
+        drawn = {path.stem: drawn_from(path) for path in FILES}
+        while drawn:
+            free = [name for name in drawn if not set(drawn[name]) & set(drawn)]
+            self.assertNotEqual(free, [], drawn)
+            drawn = {name: drawn[name] for name in drawn if name not in free}
+
+    def test_no_local_is_called_like_an_import_or_a_class(self):
+        for path in FILES:
+            parts = list(ast.walk(ast.parse(path.read_text(encoding="ascii"))))
+            taken = [part.name for part in parts if isinstance(part, (ast.ClassDef, ast.alias))]
+            for part in parts:
+                if not isinstance(part, ast.ClassDef):
+                    for name in bound_names(part):
+                        self.assertNotIn(name, taken, path.name)
 
     def test_names(self):
         for spot, node in walks():

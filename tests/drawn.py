@@ -1,0 +1,180 @@
+"""What several tests share: drawn bounds, rows, ways and gatherings, plain answers to compare with, strange things."""
+
+from manyleast.errors import Beyond, LeastError, NoBounds, NoRow, NoSuch, NoText, TooMany
+
+REFUSALS = (Beyond, NoSuch, NoBounds, TooMany, NoText, NoRow)
+FAR = 10 ** 50 - 1
+
+
+class Sour:
+    """Refuses to be compared, counted, walked or taken for a truth."""
+
+    def sour(self, *others):
+        raise RuntimeError("asked")
+
+    __eq__ = __ne__ = __lt__ = __le__ = __gt__ = __ge__ = sour
+    __len__ = __bool__ = __iter__ = __getitem__ = __hash__ = sour
+    __int__ = __index__ = __contains__ = sour
+
+
+def nested(depth, leaf):
+    thing = leaf
+    for level in range(depth):
+        thing = (thing,) if level % 2 else [thing]
+    return thing
+
+
+def strange():
+    """Things that are no tuples of numbers, and no whole numbers either; None is the last one."""
+    return [
+        True, False, "", "0", "01", b"01", 0.0, 1.0, 3.5, float("nan"), float("inf"), 1j,
+        [], [0, 3], {}, {0: 3}, set(), {0, 1}, frozenset([0, 3]), range(2), object(), Sour(), int, len,
+        nested(100, 0), [0] * 20000, (0,) * 20000, {k: k for k in range(10000)}, Ellipsis, NotImplemented, None,
+    ]
+
+
+def refused(case, kind, call, *handed):
+    """The refusal of the call, which is of this kind, a LeastError, a ValueError, and no other refusal."""
+    with case.assertRaises(kind) as taken:
+        call(*handed)
+    case.assertIsInstance(taken.exception, LeastError)
+    case.assertIsInstance(taken.exception, ValueError)
+    for other in REFUSALS:
+        case.assertEqual(isinstance(taken.exception, other), other is kind)
+    return taken.exception
+
+
+def same(one, other):
+    """Whether both are equal, of the very same kinds throughout: a truth is no number there, a list no tuple."""
+    if type(one) is not type(other):
+        return False
+    if isinstance(one, (list, tuple)):
+        return len(one) == len(other) and all(same(*pair) for pair in zip(one, other))
+    return one == other
+
+
+# Bounds and rows.
+
+def drawn_low(dice):
+    figures = dice.randint(1, 40)
+    return dice.choice((1, -1)) * dice.randint(10 ** (figures - 1) if figures > 1 else 0, 10 ** figures - 1)
+
+
+def drawn_bounds(dice):
+    """Levels at the ends and small ones come more often than the others."""
+    levels = dice.choice((0, 1, 2, 3, 4, 5, 40, dice.randint(0, 40), dice.randint(0, 40)))
+    return (dice.choice((drawn_low(dice), dice.randint(-9, 9), 10 ** 40 - 1, 1 - 10 ** 40)), levels)
+
+
+def top(bounds):
+    return bounds[0] + 2 ** bounds[1] - 1
+
+
+def drawn_worth(dice, bounds):
+    return dice.randint(bounds[0], top(bounds))
+
+
+def drawn_row(dice, bounds, length=None):
+    """Any worths, or out of one to four, near one another, in order."""
+    if length is None:
+        length = dice.choice((0, 1, 2, dice.randint(0, 12), dice.randint(0, 12), dice.randint(0, 60)))
+    form = dice.choice(("any", "few", "near", "rising", "falling"))
+    if form == "few":
+        worths = [drawn_worth(dice, bounds) for turn in range(dice.randint(1, 4))]
+        return [dice.choice(worths) for turn in range(length)]
+    if form == "near":
+        middle = drawn_worth(dice, bounds)
+        return [dice.randint(max(bounds[0], middle - 3), min(top(bounds), middle + 3)) for turn in range(length)]
+    row = [drawn_worth(dice, bounds) for turn in range(length)]
+    return row if form == "any" else sorted(row, reverse=form == "falling")
+
+
+def long_row(dice, bounds):
+    """65 to 300 numbers of few worths."""
+    worths = [drawn_worth(dice, bounds) for turn in range(dice.randint(1, 6))]
+    return [dice.choice(worths) for turn in range(dice.randint(65, 300))]
+
+
+def turns_of(bounds, number):
+    """The full way of a worth: the figures, written by twos, of how far above low it is."""
+    return tuple((number - bounds[0]) >> (bounds[1] - 1 - depth) & 1 for depth in range(bounds[1]))
+
+
+def drawn_ways(dice, bounds, rows):
+    """Ways of any length: of numbers that stand, of others, and the longest and the shortest ones."""
+    numbers = [dice.choice(row) for row in rows if row for turn in range(3)]
+    numbers += [drawn_worth(dice, bounds), drawn_worth(dice, bounds), bounds[0], top(bounds)]
+    ways = [()]
+    for number in numbers:
+        full = turns_of(bounds, number)
+        ways += [full, full[:dice.randint(0, bounds[1])]]
+    return ways
+
+
+# Plain answers.
+
+def plain_tree(bounds, row):
+    """The tree as point 7 tells it, built from the full ways of the numbers."""
+    return tree_of_turns(bounds[1], [turns_of(bounds, number) for number in row])
+
+
+def tree_of_turns(levels, ways):
+    if not ways:
+        return None
+    if levels == 0:
+        return ("many", len(ways))
+    halves = [tree_of_turns(levels - 1, [way[1:] for way in ways if way[0] == turn]) for turn in (0, 1)]
+    return ("part", tuple(way[0] for way in ways), halves[0], halves[1])
+
+
+def lies_at(bounds, way, number):
+    return turns_of(bounds, number)[:len(way)] == way
+
+
+def places_at(bounds, row, way):
+    """The places of the row whose numbers lie in the way's span."""
+    return [place for place, number in enumerate(row) if lies_at(bounds, way, number)]
+
+
+def bounds_at(bounds, way):
+    """The bounds whose worths are those of the way's span."""
+    levels = bounds[1] - len(way)
+    return (bounds[0] + sum(turn << (bounds[1] - 1 - depth) for depth, turn in enumerate(way)), levels)
+
+
+# Gatherings: told as spots (row's number, start, end), so that plain answers need no tree.
+
+def drawn_spots(dice, rows):
+    spots = []
+    for turn in range(dice.randint(1, 8)):
+        number = dice.randrange(len(rows))
+        length = len(rows[number])
+        start = dice.randint(0, length)
+        spots.append(dice.choice((
+            (number, 0, length), (number, start, start), (number, start, dice.randint(start, length)),
+            (number, start, dice.randint(start, length)), dice.choice(spots or [(number, start, length)]),
+        )))
+    return spots
+
+
+def drawn_case(dice, turn):
+    """Bounds, one to three rows, spots of them, and the gathering of these; each tenth with a long row."""
+    bounds = drawn_bounds(dice)
+    rows = [drawn_row(dice, bounds) for number in range(dice.randint(1, 3))]
+    if turn % 10 == 0:
+        rows[0] = long_row(dice, bounds)
+    spots = drawn_spots(dice, rows)
+    return bounds, rows, spots, gathered(bounds, rows, spots)
+
+
+def gathered(bounds, rows, spots):
+    trees = [plain_tree(bounds, row) for row in rows]
+    return [(trees[number], start, end) for number, start, end in spots]
+
+
+def things_of(rows, spots):
+    """All things (worth, j, place), sorted."""
+    return sorted(
+        (rows[number][place], j, place)
+        for j, (number, start, end) in enumerate(spots) for place in range(start, end)
+    )
