@@ -10,6 +10,11 @@ def many_in(gathering):
     return sum([stretch[2] - stretch[1] for stretch in gathering])
 
 
+def filled(gathering):
+    """The stretches of the gathering that have things."""
+    return [stretch for stretch in gathering if stretch[1] < stretch[2]]
+
+
 def led(gathering, way):
     """The gathering led by the way."""
     return [led_stretch(stretch, way) for stretch in gathering]

@@ -1,5 +1,7 @@
 """What several tests share: drawn bounds, rows, ways and gatherings, plain answers to compare with, strange things."""
 
+import random
+
 from manyleast.errors import Beyond, LeastError, NoBounds, NoRow, NoSuch, NoText, TooMany
 
 REFUSALS = (Beyond, NoSuch, NoBounds, TooMany, NoText, NoRow)
@@ -158,11 +160,13 @@ def drawn_spots(dice, rows):
 
 
 def drawn_case(dice, turn):
-    """Bounds, one to three rows, spots of them, and the gathering of these; each tenth with a long row."""
+    """Bounds, one to three rows, spots of them, and the gathering of these; some rows long, some alike."""
     bounds = drawn_bounds(dice)
     rows = [drawn_row(dice, bounds) for number in range(dice.randint(1, 3))]
     if turn % 10 == 0:
         rows[0] = long_row(dice, bounds)
+    if turn % 5 == 1:
+        rows[-1] = list(rows[0])
     spots = drawn_spots(dice, rows)
     return bounds, rows, spots, gathered(bounds, rows, spots)
 
@@ -178,3 +182,34 @@ def things_of(rows, spots):
         (rows[number][place], j, place)
         for j, (number, start, end) in enumerate(spots) for place in range(start, end)
     )
+
+
+def drawn_cases(seed, many):
+    """So many drawn gatherings, with the dice, and with all their things sorted."""
+    dice = random.Random(seed)
+    for turn in range(many):
+        bounds, rows, spots, gathering = drawn_case(dice, turn)
+        yield dice, bounds, rows, spots, gathering, things_of(rows, spots)
+
+
+def some_of(dice, things, many):
+    """The first, the last and some others, with their k."""
+    ks = {0, len(things) - 1} | {dice.randrange(len(things)) for turn in range(many)} if things else set()
+    return [(k, things[k]) for k in sorted(ks)]
+
+
+def some_numbers(dice, bounds, things):
+    """Numbers that stand, beside them, at the bounds' ends, far off."""
+    told = [bounds[0], bounds[0] - 1, bounds[0] + 1, top(bounds), top(bounds) - 1, top(bounds) + 1]
+    told += [drawn_worth(dice, bounds), 0, FAR, -FAR]
+    for k, thing in some_of(dice, things, 3):
+        told += [thing[0] - 1, thing[0], thing[0] + 1]
+    return told
+
+
+def plain_worths(things):
+    """The rising (worth, many) of things, by going through all of them."""
+    counted = {}
+    for thing in things:
+        counted[thing[0]] = counted.get(thing[0], 0) + 1
+    return sorted(counted.items())

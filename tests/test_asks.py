@@ -1,37 +1,22 @@
 """Points 11 and 12: the k-th thing, the number of a thing, how many below and between."""
 
-import random
 import unittest
 
-from drawn import FAR, drawn_case, drawn_worth, gathered, plain_tree, refused, same, things_of, top
+from drawn import FAR, drawn_cases, gathered, plain_tree, refused, same, some_numbers, some_of
 from manyleast.asks import below, between, nth_least, rank_of
 from manyleast.errors import NoSuch
 
 
-def cases(seed, many):
-    """Drawn gatherings, with all their things sorted."""
-    dice = random.Random(seed)
-    for turn in range(many):
-        bounds, rows, spots, gathering = drawn_case(dice, turn)
-        yield dice, bounds, rows, spots, gathering, things_of(rows, spots)
-
-
-def some_of(dice, things, many):
-    """The first, the last and some others, with their k."""
-    ks = {0, len(things) - 1} | {dice.randrange(len(things)) for turn in range(many)} if things else set()
-    return [(k, things[k]) for k in sorted(ks)]
-
-
 class NthLeast(unittest.TestCase):
     def test_each_k(self):
-        for dice, bounds, rows, spots, gathering, things in cases(60, 120):
+        for dice, bounds, rows, spots, gathering, things in drawn_cases(60, 120):
             chosen = enumerate(things) if len(things) < 100 else some_of(dice, things, 40)
             for k, thing in chosen:
                 self.assertTrue(same(nth_least(bounds, gathering, k), thing), (bounds, rows, spots, k))
             self.assertTrue(same(gathering, gathered(bounds, rows, spots)))
 
     def test_no_such_k(self):
-        for dice, bounds, rows, spots, gathering, things in cases(61, 120):
+        for dice, bounds, rows, spots, gathering, things in drawn_cases(61, 120):
             many = len(things)
             for k in (-1, -2, -many - 1, -FAR, many, many + 1, many + 1000, FAR):
                 refused(self, NoSuch, nth_least, bounds, gathering, k)
@@ -53,14 +38,14 @@ class NthLeast(unittest.TestCase):
 
 class RankOf(unittest.TestCase):
     def test_each_thing(self):
-        for dice, bounds, rows, spots, gathering, things in cases(62, 120):
+        for dice, bounds, rows, spots, gathering, things in drawn_cases(62, 120):
             chosen = enumerate(things) if len(things) < 100 else some_of(dice, things, 40)
             for k, thing in chosen:
                 self.assertTrue(same(rank_of(bounds, gathering, thing[1], thing[2]), k), (bounds, rows, spots, k))
             self.assertTrue(same(gathering, gathered(bounds, rows, spots)))
 
     def test_no_such_place_in_the_stretch(self):
-        for dice, bounds, rows, spots, gathering, things in cases(63, 120):
+        for dice, bounds, rows, spots, gathering, things in drawn_cases(63, 120):
             for j, (number, start, end) in enumerate(spots):
                 length = len(rows[number])
                 places = [start - 1, 0, start // 2, end, end + 1, length - 1, length, -1, -end, FAR, -FAR]
@@ -70,7 +55,7 @@ class RankOf(unittest.TestCase):
             self.assertTrue(same(gathering, gathered(bounds, rows, spots)))
 
     def test_no_such_stretch(self):
-        for dice, bounds, rows, spots, gathering, things in cases(64, 60):
+        for dice, bounds, rows, spots, gathering, things in drawn_cases(64, 60):
             for j in (-1, -len(spots), len(spots), len(spots) + 1, 8, FAR, -FAR):
                 if not 0 <= j < len(spots):
                     for place in (0, spots[0][1], spots[-1][1]):
@@ -85,18 +70,9 @@ class RankOf(unittest.TestCase):
         refused(self, NoSuch, rank_of, (0, 2), gathering, 0, 3)
 
 
-def some_numbers(dice, bounds, things):
-    """Numbers that stand, beside them, at the bounds' ends, far off."""
-    told = [bounds[0], bounds[0] - 1, bounds[0] + 1, top(bounds), top(bounds) - 1, top(bounds) + 1]
-    told += [drawn_worth(dice, bounds), 0, FAR, -FAR]
-    for k, thing in some_of(dice, things, 3):
-        told += [thing[0] - 1, thing[0], thing[0] + 1]
-    return told
-
-
 class Below(unittest.TestCase):
     def test_against_a_count(self):
-        for dice, bounds, rows, spots, gathering, things in cases(65, 150):
+        for dice, bounds, rows, spots, gathering, things in drawn_cases(65, 150):
             for number in some_numbers(dice, bounds, things):
                 expected = len([thing for thing in things if thing[0] < number])
                 self.assertTrue(same(below(bounds, gathering, number), expected), (bounds, rows, spots, number))
@@ -111,7 +87,7 @@ class Below(unittest.TestCase):
 
 class Between(unittest.TestCase):
     def test_against_a_count(self):
-        for dice, bounds, rows, spots, gathering, things in cases(66, 100):
+        for dice, bounds, rows, spots, gathering, things in drawn_cases(66, 100):
             numbers = some_numbers(dice, bounds, things)
             pairs = [(dice.choice(numbers), dice.choice(numbers)) for turn in range(25)]
             pairs += [(number, number) for number in numbers]
@@ -121,7 +97,7 @@ class Between(unittest.TestCase):
             self.assertTrue(same(gathering, gathered(bounds, rows, spots)))
 
     def test_low_above_high(self):
-        for dice, bounds, rows, spots, gathering, things in cases(67, 60):
+        for dice, bounds, rows, spots, gathering, things in drawn_cases(67, 60):
             for low in some_numbers(dice, bounds, things):
                 for less in (1, 2, 2 ** bounds[1], 10 ** 49):
                     self.assertTrue(same(between(bounds, gathering, low, low - less), 0))
