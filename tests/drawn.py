@@ -1,4 +1,4 @@
-"""What several tests share: drawn bounds, rows, ways and gatherings, plain answers to compare with, strange things."""
+"""What several tests share: drawn bounds, rows, gatherings and papers, plain answers, strange things."""
 
 import random
 
@@ -213,3 +213,151 @@ def plain_worths(things):
     for thing in things:
         counted[thing[0]] = counted.get(thing[0], 0) + 1
     return sorted(counted.items())
+
+
+def plain_most(things):
+    """The (worth, many) that comes most, or None."""
+    return min(plain_worths(things), key=lambda counted: (-counted[1], counted[0]), default=None)
+
+
+def plain_often(things, part):
+    return [(worth, many) for worth, many in plain_worths(things) if many * part > len(things)]
+
+
+def some_parts(dice, things):
+    """1, 2, 3, some more, those at which a worth of the things just isn't often yet and is, great ones."""
+    edges = [len(things) // many for worth, many in plain_worths(things)]
+    parts = {1, 2, 3, 4, dice.randint(5, 9), dice.randint(5, 40), 1000, FAR}
+    parts |= {len(things) - 1, len(things), len(things) + 1, 2 * len(things)}
+    parts |= {edge + more for edge in edges for more in (-1, 0, 1)}
+    return sorted(part for part in parts if part > 0)
+
+
+def plain_up(things, number):
+    above = [counted for counted in plain_worths(things) if counted[0] > number]
+    return above[0] if above else None
+
+
+# Papers: told by the ways at which they split, so that their counts are reckoned from the plain things.
+
+def plain_paper(bounds, things, splits):
+    """The paper that splits at these ways, each many counted in the things."""
+    return paper_of_turns((), [turns_of(bounds, thing[0]) for thing in things], splits)
+
+
+def paper_of_turns(way, full_ways, splits):
+    if way not in splits:
+        return ("all", len(full_ways))
+    halves = [
+        paper_of_turns(way + (turn,), [full for full in full_ways if full[len(way)] == turn], splits)
+        for turn in (0, 1)
+    ]
+    return ("split", len(full_ways), halves[0], halves[1])
+
+
+def splits_of(paper, way=()):
+    """The ways at which the paper splits."""
+    if paper[0] == "all":
+        return set()
+    return {way} | splits_of(paper[2], way + (0,)) | splits_of(paper[3], way + (1,))
+
+
+def closed_ways(splits):
+    """The ways at which a paper with these splits is closed."""
+    ways = [way + (turn,) for way in splits for turn in (0, 1)] + [()]
+    return sorted(way for way in ways if way not in splits)
+
+
+def splits_towards(bounds, numbers):
+    """The splits by which the full way of each number comes to be closed."""
+    return {turns_of(bounds, number)[:depth] for number in numbers for depth in range(bounds[1])}
+
+
+def closed_at(splits, way):
+    """The splits without that at the way and those behind it."""
+    return {other for other in splits if other[:len(way)] != way}
+
+
+def drawn_splits(dice, bounds, numbers, many=4):
+    """Splits towards some of the numbers, whole or in part, then so many others one after the other, or fewer."""
+    chosen = [number for number in numbers if bounds[0] <= number <= top(bounds) and dice.random() < 0.8]
+    splits = splits_towards(bounds, chosen)
+    for turn in range(dice.choice((0, 0, 1, 3))):
+        if splits:
+            splits = closed_at(splits, dice.choice(sorted(splits)))
+    for turn in range(dice.randint(0, many)):
+        open_ways = [way for way in closed_ways(splits) if len(way) < bounds[1]]
+        if open_ways:
+            splits = splits | {dice.choice(open_ways)}
+    return splits
+
+
+def all_splits(levels, way=()):
+    """The splits of every paper by these levels."""
+    told = [frozenset()]
+    if levels > 0:
+        uppers = all_splits(levels - 1, way + (1,))
+        told += [{way} | lower | upper for lower in all_splits(levels - 1, way + (0,)) for upper in uppers]
+    return told
+
+
+class Part:
+    """A closed part: its way, its span, how many things it has."""
+
+    def __init__(self, bounds, way, many):
+        inner = bounds_at(bounds, way)
+        self.way, self.least, self.greatest, self.many = way, inner[0], top(inner), many
+        self.is_full = len(way) == bounds[1]
+
+
+def closed_parts_of(bounds, paper, way=()):
+    if paper[0] == "all":
+        return [Part(bounds, way, paper[1])]
+    lower = closed_parts_of(bounds, paper[2], way + (0,))
+    return lower + closed_parts_of(bounds, paper[3], way + (1,))
+
+
+# What a paper that is kept shows, by its closed parts: the sentences of point 18, one after the other.
+
+def its_part(parts, worth):
+    """The closed full way of the worth, or None."""
+    return next((part for part in parts if part.is_full and part.least == worth), None)
+
+
+def by_parts_below(parts, number, many):
+    held = [part for part in parts if part.many > 0]
+    beneath = [part for part in held if part.greatest < number]
+    beyond = [part for part in held if part.least >= number]
+    return len(beneath) + len(beyond) == len(held) and sum(part.many for part in beneath) == many
+
+
+def by_parts_least(parts, k, worth):
+    own = its_part(parts, worth)
+    if own is None:
+        return False
+    lesser = sum(part.many for part in parts if part.greatest < worth)
+    return lesser <= k and lesser + own.many > k
+
+
+def by_parts_most(parts, worth, many):
+    own = its_part(parts, worth)
+    if own is None or own.many != many or many <= 0:
+        return False
+    fewer = all(part.many < many for part in parts if part.greatest < worth)
+    return fewer and all(part.many <= many for part in parts if part.least > worth)
+
+
+def by_parts_often(parts, part, told):
+    whole = sum(closed.many for closed in parts)
+    above = [closed for closed in parts if closed.many * part > whole]
+    return all(closed.is_full for closed in above) and told == sorted((closed.least, closed.many) for closed in above)
+
+
+def by_parts_up(parts, number, told):
+    held = [part for part in parts if part.many > 0]
+    if told is None:
+        return all(part.greatest <= number for part in held)
+    own = its_part(parts, told[0])
+    if told[0] <= number or own is None or own.many != told[1] or told[1] <= 0:
+        return False
+    return all(part.greatest <= number or part.least > told[0] for part in held if part is not own)

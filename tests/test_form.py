@@ -193,6 +193,19 @@ class Code(unittest.TestCase):
                 self.assertIsInstance(node.right, ast.Constant, spot)
                 self.assertIn(node.right.value, range(65), spot)
 
+    def test_no_two_lambdas_on_one_line(self):
+        spots = [spot for spot, node in walks() if isinstance(node, ast.Lambda)]
+        self.assertEqual(len(spots), len(set(spots)), spots)
+
+    def test_inner_functions_assign_nothing_around_them(self):
+        for spot, outer in walks():
+            if isinstance(outer, ast.FunctionDef):
+                inner = [part for part in ast.walk(outer) if isinstance(part, ast.FunctionDef) and part is not outer]
+                around = [arg.arg for arg in outer.args.args]
+                for part in inner:
+                    for name in [name for step in ast.walk(part) if step is not part for name in bound_names(step)]:
+                        self.assertNotIn(name, around, spot)
+
     def test_walked_at_once(self):
         for spot, node in walks():
             if isinstance(node, (ast.Assign, ast.Return)) and isinstance(node.value, ast.Call):

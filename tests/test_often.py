@@ -2,33 +2,12 @@
 
 import unittest
 
-from drawn import FAR, drawn_cases, gathered, plain_tree, plain_worths, same
+from drawn import FAR, drawn_cases, gathered, plain_most, plain_often, plain_tree, plain_worths, same, some_parts
 from manyleast.often import most, often, worths_in
 
 
 def twice(counted):
     return [(worth, 2 * many) for worth, many in counted]
-
-
-def plain_most(things):
-    best = None
-    for worth, many in plain_worths(things):
-        if best is None or many > best[1]:
-            best = (worth, many)
-    return best
-
-
-def plain_often(things, part):
-    return [(worth, many) for worth, many in plain_worths(things) if many * part > len(things)]
-
-
-def some_parts(dice, things):
-    """1, 2, 3, some more, those at which a worth of the things just isn't often yet and is, great ones."""
-    edges = [len(things) // many for worth, many in plain_worths(things)]
-    parts = {1, 2, 3, 4, dice.randint(5, 9), dice.randint(5, 40), 1000, FAR}
-    parts |= {len(things) - 1, len(things), len(things) + 1, 2 * len(things)}
-    parts |= {edge + more for edge in edges for more in (-1, 0, 1)}
-    return sorted(part for part in parts if part > 0)
 
 
 class WorthsIn(unittest.TestCase):

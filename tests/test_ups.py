@@ -2,15 +2,10 @@
 
 import unittest
 
-from drawn import FAR, drawn_cases, gathered, plain_tree, plain_worths, refused, same, some_numbers, some_of
+from drawn import FAR, drawn_cases, gathered, plain_tree, plain_up, plain_worths, refused, same, some_numbers, some_of
 from manyleast.asks import nth_least
 from manyleast.errors import NoSuch
 from manyleast.ups import next_down, next_up, sum_of_least
-
-
-def plain_up(things, number):
-    above = [counted for counted in plain_worths(things) if counted[0] > number]
-    return above[0] if above else None
 
 
 def plain_down(things, number):
