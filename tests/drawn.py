@@ -1,4 +1,4 @@
-"""What several tests share: drawn bounds, rows, gatherings and papers, plain answers, strange things."""
+"""What several tests share: drawn bounds, rows, gatherings, papers and makes, plain answers, strange things."""
 
 import random
 
@@ -238,6 +238,11 @@ def plain_up(things, number):
     return above[0] if above else None
 
 
+def plain_down(things, number):
+    beneath = [counted for counted in plain_worths(things) if counted[0] < number]
+    return beneath[-1] if beneath else None
+
+
 # Papers: told by the ways at which they split, so that their counts are reckoned from the plain things.
 
 def plain_paper(bounds, things, splits):
@@ -317,6 +322,12 @@ def closed_parts_of(bounds, paper, way=()):
     return lower + closed_parts_of(bounds, paper[3], way + (1,))
 
 
+def paper_text(paper):
+    """The text of a paper, as point 24 tells it."""
+    many = "%d" % paper[1]
+    return many if paper[0] == "all" else many + "(" + paper_text(paper[2]) + "," + paper_text(paper[3]) + ")"
+
+
 # What a paper that is kept shows, by its closed parts: the sentences of point 18, one after the other.
 
 def its_part(parts, worth):
@@ -361,3 +372,97 @@ def by_parts_up(parts, number, told):
     if told[0] <= number or own is None or own.many != told[1] or told[1] <= 0:
         return False
     return all(part.greatest <= number or part.least > told[0] for part in held if part is not own)
+
+
+# Pairs.
+
+def plain_pairs(numbers):
+    """How many pairs of places fall, rise and are alike, counted one by one."""
+    falls = rises = alike = 0
+    for greater, behind in enumerate(numbers):
+        for ahead in numbers[:greater]:
+            falls += ahead > behind
+            rises += ahead < behind
+            alike += ahead == behind
+    return (falls, rises, alike)
+
+
+# Makes: told as plain rows, by their numbers.
+
+DOINGS = {
+    "row": "of_row", "put": "put_in", "take": "taken_out", "set": "set_at",
+    "cut": "cut_out", "join": "joined", "turn": "turned", "flip": "flipped",
+}
+
+
+class Doing:
+    """A doing by its word, what is handed in, the row that comes of it, and the makes that are named."""
+
+    def __init__(self, word, handed, row, sources):
+        self.word, self.handed, self.row, self.sources = word, handed, row, sources
+
+    def done(self, makes):
+        """The number that the makes tell."""
+        handed = [list(self.handed)] if self.word == "row" else self.handed
+        return getattr(makes, DOINGS[self.word])(*handed)
+
+    def text(self):
+        """The row of words that a desk is told."""
+        return " ".join([self.word] + [str(number) for number in self.handed])
+
+
+def flip_of(bounds, row):
+    return [bounds[0] + top(bounds) - number for number in row]
+
+
+def drawn_doing(dice, bounds, rows):
+    """A doing on any of the makes with these rows."""
+    make, other = dice.randrange(len(rows)), dice.randrange(len(rows))
+    if dice.random() < 0.2:
+        other = make
+    row = rows[make]
+    place, start, number = dice.randint(0, len(row)), dice.randint(0, len(row)), drawn_worth(dice, bounds)
+    end = dice.choice((start, len(row), dice.randint(start, len(row))))
+    fresh = drawn_row(dice, bounds, dice.randint(0, 12))
+    told = [
+        Doing("row", fresh, fresh, []),
+        Doing("put", (make, place, number), row[:place] + [number] + row[place:], [make]),
+        Doing("cut", (make, start, end), row[start:end], [make]),
+        Doing("turn", (make,), row[::-1], [make]),
+        Doing("flip", (make,), flip_of(bounds, row), [make]),
+    ]
+    if place < len(row):
+        told.append(Doing("take", (make, place), row[:place] + row[place + 1:], [make]))
+        told.append(Doing("set", (make, place, number), row[:place] + [number] + row[place + 1:], [make]))
+    if len(row + rows[other]) <= 60:
+        told.append(Doing("join", (make, other), row + rows[other], [make, other]))
+    return dice.choice(told)
+
+
+def drawn_doings(dice, bounds, many):
+    """So many doings, one behind the other, and the rows of all makes with them."""
+    rows, told = [[]], []
+    for turn in range(many):
+        told.append(drawn_doing(dice, bounds, rows))
+        rows.append(told[-1].row)
+    return told, rows
+
+
+# A desk's words.
+
+def spots_text(spots):
+    """A gathering's word: spots are (make, start, end)."""
+    return "+".join("%d:%d:%d" % spot for spot in spots)
+
+
+def counted_text(counted):
+    return "-" if counted is None else "%d:%d" % counted
+
+
+def list_text(told):
+    return ",".join(counted_text(counted) for counted in told) or "-"
+
+
+def desk_rows(desk, many):
+    """The rows of so many makes, as the desk shows them."""
+    return [desk.say(f"show {make}") for make in range(many)]

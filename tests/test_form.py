@@ -65,6 +65,10 @@ def bound_names(node):
     return []
 
 
+def is_call(node):
+    return isinstance(node, ast.Call)
+
+
 def own_methods():
     return [node.name for spot, node in walks() if isinstance(node, ast.FunctionDef)]
 
@@ -152,10 +156,66 @@ class Code(unittest.TestCase):
         for path in FILES:
             parts = list(ast.walk(ast.parse(path.read_text(encoding="ascii"))))
             taken = [part.name for part in parts if isinstance(part, (ast.ClassDef, ast.alias))]
+            methods = [method for part in parts if isinstance(part, ast.ClassDef) for method in part.body]
             for part in parts:
-                if not isinstance(part, ast.ClassDef):
+                # A method may be called like an import.
+                if not isinstance(part, ast.ClassDef) and part not in methods:
                     for name in bound_names(part):
                         self.assertNotIn(name, taken, path.name)
+
+    def test_the_top_of_a_file(self):
+        for path in FILES:
+            code = ast.parse(path.read_text(encoding="ascii"))
+            self.assertIsNotNone(ast.get_docstring(code), path.name)
+            names = []
+            for part in code.body[1:]:
+                self.assertIsInstance(part, (ast.ImportFrom, ast.FunctionDef, ast.ClassDef, ast.Assign), path.name)
+                if isinstance(part, ast.Assign):
+                    # Plain values alone, and no list or dict within another one.
+                    value = ast.literal_eval(part.value)
+                    inner = list(value.values()) if isinstance(value, dict) else value
+                    if not isinstance(inner, (int, str)):
+                        self.assertFalse(any(isinstance(thing, (list, dict)) for thing in inner), path.name)
+                names += bound_names(part.targets[0] if isinstance(part, ast.Assign) else part)
+                names += [alias.name for alias in part.names] if isinstance(part, ast.ImportFrom) else []
+            self.assertEqual(len(names), len(set(names)), path.name)
+
+    def test_what_stands_at_a_files_top_is_only_read(self):
+        for path in FILES:
+            code = ast.parse(path.read_text(encoding="ascii"))
+            tops = [part.targets[0].id for part in code.body if isinstance(part, ast.Assign)]
+            handed = [part.args + [word.value for word in part.keywords] for part in ast.walk(code) if is_call(part)]
+            told = [[part.value] for part in ast.walk(code) if isinstance(part, ast.Return)]
+            for part in [part for parts in handed + told for part in parts]:
+                self.assertFalse(isinstance(part, ast.Name) and part.id in tops, path.name)
+
+    def test_no_name_is_a_method_and_a_value(self):
+        methods = []
+        values = []
+        for spot, node in walks():
+            if isinstance(node, ast.ClassDef):
+                own = [part.name for part in node.body if isinstance(part, ast.FunctionDef)]
+                self.assertEqual(len(own), len(set(own)), spot)
+                methods += [name for name in own if name not in SPECIAL]
+            if isinstance(node, ast.Attribute) and isinstance(node.ctx, ast.Store):
+                values.append(node.attr)
+        self.assertEqual(set(methods) & set(values), set())
+        pythons = [name for kind in (str, int, list, tuple, dict, set, frozenset, bytes) for name in dir(kind)]
+        for name in methods + values:
+            self.assertNotIn(name, pythons)
+
+    def test_errors_are_made_on_the_spot_and_taken_by_name(self):
+        errors = ast.parse((PACKAGE / "errors.py").read_text(encoding="ascii"))
+        kinds = [part.name for part in errors.body if isinstance(part, ast.ClassDef)]
+        for spot, node in walks():
+            if isinstance(node, ast.Raise):
+                self.assertTrue(is_call(node.exc) and node.exc.func.id in kinds, spot)
+                self.assertTrue(node.cause is None or getattr(node.cause, "value", 0) is None, spot)
+            if isinstance(node, ast.ExceptHandler):
+                self.assertIn(node.type.id, kinds, spot)
+            if isinstance(node, ast.FormattedValue):
+                self.assertIsInstance(node.value, ast.Name, spot)
+                self.assertIsNone(node.format_spec, spot)
 
     def test_names(self):
         for spot, node in walks():
